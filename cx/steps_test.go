@@ -12,8 +12,6 @@ import (
 
 const room = 2200 // bits: enough for the sum of the greatest and the smallest float
 
-func finite(p float64) bool { return !math.IsInf(p, 0) && !math.IsNaN(p) }
-
 func number(p float64) *exact.Float { return new(exact.Float).SetPrec(room).SetFloat64(p) }
 
 func rounded(f *exact.Float) float64 {
